@@ -1,0 +1,1 @@
+"""Wishshelves: saved searches that use one another."""
