@@ -72,7 +72,8 @@ class MakingFieldsTest(unittest.TestCase):
     def test_bad_numbers(self):
         for value in (
                 (("a", 0),), (("a", 100),), (("a", -1),), (("a", True),), (("a", None),), (("a", "b"),),
-                (("a", 1), ("a", 2)), (("a", 1), ("b", 1), ("c", 1)), (("folder", 1),), (("self", 1),), (("A", 1),), (["a", 1],), (("a",),),
+                (("a", 1), ("a", 2)), (("a", 1), ("b", 1), ("c", 1)), (("folder", 1),), (("self", 1),),
+                (("A", 1),), (["a", 1],), (("a",),),
                 (("a", 1, 1),), [("a", 1)], ("a", 1), {"a": 1}):
             self.refused(value, ("in",), numbers=value)
 

@@ -18,17 +18,19 @@ LIBRARY = {
     "collections": "defaultdict deque", "__future__": "annotations"}
 
 BUILTINS = (
-    "len range enumerate zip min max sum abs sorted reversed int str bool list tuple dict set isinstance ord repr any "
-    "all divmod pow getattr hasattr setattr iter next map type Exception ValueError TypeError KeyError IndexError "
-    "LookupError ZeroDivisionError ArithmeticError OverflowError RuntimeError NotImplementedError AttributeError StopIteration "
-    "NotImplemented super property staticmethod classmethod object").split()
+    "len range enumerate zip min max sum abs sorted reversed int str bool list tuple dict set isinstance ord "
+    "repr any all divmod pow getattr hasattr setattr iter next map type Exception ValueError TypeError "
+    "KeyError IndexError LookupError ZeroDivisionError ArithmeticError OverflowError RuntimeError "
+    "NotImplementedError AttributeError StopIteration NotImplemented super property staticmethod classmethod "
+    "object").split()
 
 METHODS = (
-    "append clear copy count endswith extend find get index insert isalnum isalpha isdigit islower isspace isupper "
-    "items join keys ljust lower lstrip partition pop remove replace reverse rfind rjust rpartition rsplit rstrip setdefault "
-    "split splitlines startswith strip update upper values zfill bit_length title capitalize swapcase casefold center "
-    "expandtabs removeprefix removesuffix rindex isascii isdecimal isnumeric istitle isidentifier isprintable sort "
-    "format add discard appendleft popleft extendleft rotate from_iterable").split()
+    "append clear copy count endswith extend find get index insert isalnum isalpha isdigit islower isspace "
+    "isupper items join keys ljust lower lstrip partition pop remove replace reverse rfind rjust rpartition "
+    "rsplit rstrip setdefault split splitlines startswith strip update upper values zfill bit_length title "
+    "capitalize swapcase casefold center expandtabs removeprefix removesuffix rindex isascii isdecimal "
+    "isnumeric istitle isidentifier isprintable sort format add discard appendleft popleft extendleft rotate "
+    "from_iterable").split()
 
 OPERATORS = "add sub mul floordiv mod and or xor lshift rshift".split()
 BINARY = "eq lt le gt ge ne pow ipow".split() + [prefix + one for prefix in ("", "r", "i") for one in OPERATORS]
@@ -37,8 +39,8 @@ SPECIAL = [f"__{one}__" for one in "init repr str len enter exit call iter neg p
 
 BARRED_NAMES = "register mro elements open input law version_info with_traceback add_note".split()
 BARRED_WORDS = (
-    "type typing typing_extensions enum Enum IntEnum StrEnum Flag IntFlag Generic Protocol ABC ABCMeta namedtuple "
-    "NamedTuple TypedDict TYPE_CHECKING abstractmethod _wall _WallAttr").split()
+    "type typing typing_extensions enum Enum IntEnum StrEnum Flag IntFlag Generic Protocol ABC ABCMeta "
+    "namedtuple NamedTuple TypedDict TYPE_CHECKING abstractmethod _wall _WallAttr").split()
 
 BARRED_NODES = (
     ast.AsyncFunctionDef, ast.AsyncFor, ast.AsyncWith, ast.Await, ast.Div, ast.MatMult, ast.TryStar)
