@@ -1,8 +1,12 @@
-"""What several tests need: fields, any values, a stand-in for Shelves."""
+"""What several tests need: fields, any values, searches by the dozen, a stand-in for Shelves."""
+
+import random
 
 from wishshelves.errors import BadName
 from wishshelves.fields import Fields
-from wishshelves.searches import at, marked
+from wishshelves.moves import Move
+from wishshelves.searches import at, below, everything, filled, least, marked, most, nothing, said, shelf
+from wishshelves.shelves import Shelves
 
 FIELDS = Fields(("in", "in/new", "out"), marks=("red",), numbers=(("size", 3),), kinds=(("kind", ("note", "list")),))
 
@@ -10,6 +14,14 @@ FIELDS = Fields(("in", "in/new", "out"), marks=("red",), numbers=(("size", 3),),
 WIDE = Fields(
     ("a", "a/b", "a/b/c", "b"), marks=("red", "blue"), numbers=(("size", 2), ("age", 1)),
     kinds=(("kind", ("zoo", "ant")), ("tone", ("low",))))
+
+# Few items, but each kind of field, one with a single value among them.
+SMALL = Fields(("a",), marks=("red", "blue"), numbers=(("size", 1),), kinds=(("kind", ("zoo", "ant")),))
+
+# As many items as there can be: six folders, four marks, two numbers to 99, two kinds of four words.
+LARGEST = Fields(
+    ("a", "a/b", "a/b/c", "b", "c", "d"), marks=("e", "f", "g", "h"), numbers=(("i", 99), ("j", 99)),
+    kinds=(("k", ("a", "b", "c", "d")), ("l", ("d", "c", "b", "a"))))
 
 
 class Kept:
@@ -24,6 +36,61 @@ class Kept:
 
     def __getitem__(self, name):
         return self.searches[name]
+
+
+def conditions_for(fields, names=()):
+    """Return many conditions that fit these fields, and the shelves of these names."""
+    made = [everything(), nothing(), *[shelf(name) for name in names]]
+    made += [one(path) for path in fields.folders for one in (at, below)]
+    made += [marked(name) for name in fields.marks]
+    for name, top in fields.numbers:
+        made += [filled(name), *[one(name, number) for number in {0, 1, top, top + 1, 40, 99} if number < 100
+                                 for one in (least, most)]]
+    for name, words in fields.kinds:
+        made += [filled(name), said(name, "other"), *[said(name, word) for word in words]]
+    return made
+
+
+def some_searches(fields, many, seed, longest=12, names=()):
+    """Return so many searches that fit these fields and shelves, of up to so many conditions, the same each time."""
+    chance = random.Random(seed)
+    conditions = conditions_for(fields, names)
+    return [one_search(chance, conditions, chance.randint(1, longest)) for number in range(many)]
+
+
+def one_search(chance, conditions, many):
+    """Return a search of so many of these conditions."""
+    if many == 1:
+        search = chance.choice(conditions)
+    else:
+        cut = chance.randrange(1, many)
+        one, other = one_search(chance, conditions, cut), one_search(chance, conditions, many - cut)
+        search = chance.choice([lambda: one & other, lambda: one | other, lambda: one ^ other, lambda: one - other])()
+    return ~search if chance.random() < 0.2 else search
+
+
+def some_moves(fields, seed, many=4):
+    """Return a Shelves with some shelves and moves, the same each time."""
+    chance = random.Random(seed)
+    shelves = Shelves(fields)
+    for name, search in zip(("one", "two"), some_searches(fields, 2, seed, longest=5)):
+        shelves[name] = search
+    conditions = conditions_for(fields, shelves.names)
+    for name in ("am", "be", "do", "go", "is", "mow")[:many]:
+        search = one_search(chance, conditions, chance.randint(1, 4))
+        marks = {mark: chance.choice(["on", "off", None]) for mark in fields.marks}
+        choices = dict(zip(fields.names, all_choices(fields)))
+        names = [one for one, more in fields.kinds + fields.numbers if chance.random() < 0.4]
+        shelves.set_move(name, Move(
+            search, to=chance.choice([None, *fields.folders]), on=tuple(one for one in marks if marks[one] == "on"),
+            off=tuple(one for one in marks if marks[one] == "off"),
+            sets=tuple((one, chance.choice(choices[one])) for one in names)))
+    return shelves
+
+
+def repr_of(search):
+    """Return the whole of a search as a text."""
+    return repr([repr_of(part) if hasattr(part, "parts") else part for part in search.parts])
 
 
 def all_items(fields):
@@ -59,4 +126,5 @@ def any_values():
         {}, {"in": "red"},
         deep(lambda value: [value]), deep(lambda value: (value,)), deep(lambda value: {"in": value}),
         FIELDS, FIELDS.made("in"), at("in"), at("in") & marked("red"), ~at("in"), BadName("in"),
+        FIELDS.everything, FIELDS.nothing, WIDE.group(at("a")), Move(at("in")), Shelves(FIELDS),
     ]

@@ -3,7 +3,7 @@
 import unittest
 
 from helper import any_values
-from wishshelves.names import are_names, are_pairs, is_name, is_path, is_whole, place_among
+from wishshelves.names import are_names, are_pairs, firsts, is_decimal, is_name, is_path, is_whole, place_among
 
 
 class NamesTest(unittest.TestCase):
@@ -26,6 +26,20 @@ class NamesTest(unittest.TestCase):
             self.assertIs(is_whole(value, 0, 99), False, value)
         self.assertIs(is_whole(0, 1, 99), False)
         self.assertIs(is_whole(True, 1, 99), False)
+
+    def test_decimals(self):
+        for text in ("0", "1", "9", "10", "99"):
+            self.assertIs(is_decimal(text, 2), True, text)
+        for text in (
+                "", "00", "01", "100", "-1", "+1", " 1", "1 ", "1.", "1_0", "a", "\u0663", "\u00b2", "\uff11", "1\n"):
+            self.assertIs(is_decimal(text, 2), False, text)
+        self.assertIs(is_decimal("123456789", 9), True)
+        self.assertIs(is_decimal("1234567890", 9), False)
+        self.assertIs(is_decimal("10", 1), False)
+
+    def test_firsts(self):
+        self.assertEqual(firsts(()), ())
+        self.assertEqual(firsts((("b", 1), ("a", ()), ("b", None))), ("b", "a", "b"))
 
     def test_tuples_of_names(self):
         for value in ((), ("a",), ("b", "a"), tuple("abcdefghij")):

@@ -4,7 +4,7 @@ import itertools
 import unittest
 from operator import iand, ior, isub, ixor
 
-from helper import FIELDS, WIDE, Kept, all_items, any_values
+from helper import FIELDS, WIDE, Kept, all_items, any_values, repr_of
 from wishshelves.errors import BadWord, NoField, NoFolder, NoShelf, OtherFields, TooLong
 from wishshelves.fields import Fields
 from wishshelves.searches import (
@@ -266,11 +266,6 @@ class OperatorsTest(unittest.TestCase):
         for search in (at("in"), at("in") & "x"):
             for call in (iter, list, tuple):
                 self.assertRaises(TypeError, call, search)
-
-
-def repr_of(search):
-    """Return the whole of a search as a text."""
-    return repr([repr_of(part) if isinstance(part, Search) else part for part in search.parts])
 
 
 CONDITIONS = [

@@ -1,8 +1,13 @@
 """Fields: which folders, marks, numbers and kinds items have, and the items that there can be of them."""
 
+from wishshelves.diagrams import plain_rows
 from wishshelves.errors import BadFields, BadKey, BadValue, NoField, NoFolder, NoMark
+from wishshelves.groups import Group
 from wishshelves.items import Item
-from wishshelves.names import HIGHEST, are_names, are_pairs, is_path, is_whole, place_among
+from wishshelves.meanings import node_of
+from wishshelves.names import HIGHEST, are_names, are_pairs, firsts, is_path, is_whole, place_among
+from wishshelves.searches import check_use
+from wishshelves.stores import Store
 
 BARRED = ("folder", "self")
 MOST_FOLDERS = 6
@@ -13,7 +18,7 @@ MOST_WORDS = 4
 
 
 class Fields:
-    """The fields of items. choices tells for each of them the values that it can have, from the least on."""
+    """The fields of items: choices tells for each the values that it can have, from the least on, sizes how many."""
 
     def __init__(self, folders, *, marks=(), numbers=(), kinds=()):
         check_fields(folders, marks, numbers, kinds)
@@ -25,7 +30,10 @@ class Fields:
         self.kind_names = firsts(kinds)
         self.names = ("folder",) + marks + self.number_names + self.kind_names
         self.choices = choices_of(folders, marks, numbers, kinds)
-        self.many = product_of([len(choices) for choices in self.choices])
+        self.sizes = tuple([len(choices) for choices in self.choices])
+        self.many = product_of(self.sizes)
+        self.everything = Group(self, (1, plain_rows(len(self.names))))
+        self.nothing = Group(self, (0, plain_rows(len(self.names))))
 
     def __eq__(self, other):
         return (isinstance(other, Fields) and self.folders == other.folders and self.marks == other.marks
@@ -56,6 +64,12 @@ class Fields:
         if -1 in places:
             raise BadKey(key)
         return Item(self, places)
+
+    def group(self, search, shelves=None):
+        """Return the group of all items of which a search is true; shelves tells what the shelves are that it names."""
+        check_use(search, self, shelves)
+        store = Store(self)
+        return Group(self, store.diagram_of(node_of(store, search, shelves, {})))
 
 
 def check_fields(folders, marks, numbers, kinds):
@@ -105,11 +119,6 @@ def are_named_pairs(value, taken):
 def are_free(names, taken):
     """Tell whether none of these names is among those taken."""
     return not any([name in taken for name in names])
-
-
-def firsts(pairs):
-    """Return what stands first in each pair."""
-    return tuple([pair[0] for pair in pairs])
 
 
 def choices_of(folders, marks, numbers, kinds):

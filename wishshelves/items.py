@@ -65,7 +65,7 @@ class Item:
 
 
 def changes_laid(fields, pairs):
-    """Return (place of the field, place of its value) for each pair, None if these pairs cannot be laid."""
+    """Return a tuple of (place of the field, place of its value) for these pairs, None if they cannot be laid."""
     if not are_pairs(pairs):
         return None
     changes = []
@@ -76,4 +76,4 @@ def changes_laid(fields, pairs):
             return None
         changes.append((field, place_among(fields.choices[field], value)))
         last = field
-    return changes
+    return tuple(changes)

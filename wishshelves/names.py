@@ -1,6 +1,7 @@
 """The plain values that all parts of the program are told in: names, paths, numbers and pairs."""
 
 LETTERS = "abcdefghijklmnopqrstuvwxyz"
+FIGURES = "0123456789"
 LONGEST_NAME = 8
 LONGEST_PATH = 3
 HIGHEST = 99
@@ -25,6 +26,13 @@ def is_whole(value, low, high):
     return isinstance(value, int) and not isinstance(value, bool) and low <= value <= high
 
 
+def is_decimal(text, figures):
+    """Tell whether a text is a number of at most so many figures, without leading zeros."""
+    if not 1 <= len(text) <= figures or not all([sign in FIGURES for sign in text]):
+        return False
+    return text == "0" or text[0] != "0"
+
+
 def are_names(value):
     """Tell whether a value is a tuple of different names."""
     if not isinstance(value, tuple) or not all([is_name(one) for one in value]):
@@ -35,6 +43,11 @@ def are_names(value):
 def are_pairs(value):
     """Tell whether a value is a tuple of tuples of two values each."""
     return isinstance(value, tuple) and all([isinstance(one, tuple) and len(one) == 2 for one in value])
+
+
+def firsts(pairs):
+    """Return what stands first in each pair."""
+    return tuple([pair[0] for pair in pairs])
 
 
 def place_among(choices, value):

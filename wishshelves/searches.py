@@ -67,9 +67,7 @@ class Search:
 
     def __call__(self, item, shelves=None):
         """Tell whether this search is true of an item; shelves tells what the shelves are that it names."""
-        if shelves is not None and shelves.fields != item.fields:
-            raise OtherFields()
-        check_fits(self, item.fields, () if shelves is None else shelves)
+        check_use(self, item.fields, shelves)
         return is_true(self, item, shelves, {})
 
 
@@ -179,6 +177,13 @@ def shelves_of(conditions):
     return tuple(sorted(set([str(condition[1]) for condition in conditions if condition[0] == "shelf"])))
 
 
+def check_use(search, fields, shelves):
+    """Raise an error if a search cannot be used with these fields, and with these shelves or None."""
+    if shelves is not None and shelves.fields != fields:
+        raise OtherFields()
+    check_fits(search, fields, () if shelves is None else shelves)
+
+
 def check_fits(search, fields, shelf_names):
     """Raise an error for the first condition that does not fit the fields and the names of the shelves there are."""
     for condition in search.conditions:
@@ -191,6 +196,16 @@ def check_fits(search, fields, shelf_names):
                 raise NoShelf(condition[1])
         elif len(condition) > 1 and condition[1] not in names_for(word, fields):
             raise NoField(condition[1])
+
+
+def renamed(search, old, new):
+    """Return a search in which each condition about one shelf is about another one."""
+    parts = search.parts
+    if parts == ("shelf", old):
+        return shelf(new)
+    if parts[0] != "not" and parts[0] not in ROW_WORDS:
+        return search
+    return Search((parts[0], *[renamed(member, old, new) for member in parts[1:]]))
 
 
 def names_for(word, fields):
