@@ -194,7 +194,8 @@ def least_of(diagram):
     while node > 1:
         field, edges = rows[node]
         # Neighbours differ: if the first edge leads to no item, the second one leads to some.
-        places[field], node = edges[0] if edges[0][1] != 0 else edges[1]
+        first, node = edges[0] if edges[0][1] != 0 else edges[1]
+        places[field] = first
     return tuple(places)
 
 
@@ -215,7 +216,9 @@ def least_pair(diagram, field):
         return None
     places = [0] * rows[0][0]
     while rows[node][0] != field:
-        places[rows[node][0]], node = [edge for edge in rows[node][1] if leads[edge[1]]][0]
+        asked, edges = rows[node]
+        first, node = [edge for edge in edges if leads[edge[1]]][0]
+        places[asked] = first
     edges = rows[node][1]
     best = None
     place = 0

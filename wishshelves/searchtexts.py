@@ -54,8 +54,8 @@ def read_search(text):
         raise BadText(text)
     reader = Reader(text)
     search = reader.row(0)
-    # Needless brackets and blanks are read over: what they were read as is not written so.
-    if reader.at < len(reader.words) or show_search(search) != text:
+    # Needless brackets, blanks and what stands behind the last word are read over: what was read is not written so.
+    if show_search(search) != text:
         raise BadText(text)
     return search
 
