@@ -32,7 +32,7 @@ class ItemsTest(unittest.TestCase):
         self.assertEqual((item.folder, item.marks), ("a/b", ("red", "blue")))
         self.assertEqual(WIDE.made("b", "blue").marks, ("blue",))
         self.assertEqual(WIDE.made("b").marks, ())
-        for one in ("fields", "key", "folder", "marks"):
+        for one in ("fields", "key", "marks"):
             self.assertIn(one, vars(item))
 
     def test_values_by_name(self):

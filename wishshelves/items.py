@@ -11,7 +11,6 @@ class Item:
         self.fields = fields
         self.places = places
         self.key = tuple([choices[place] for choices, place in zip(fields.choices, places)])
-        self.folder = self.key[0]
         self.marks = tuple([mark for mark, has in zip(fields.marks, self.key[1:]) if has])
 
     def __eq__(self, other):
@@ -48,6 +47,11 @@ class Item:
 
     def __iter__(self):
         raise TypeError("an item cannot be iterated over")
+
+    @property
+    def folder(self):
+        """Return the folder of the item."""
+        return self.key[0]
 
     def apart(self, other):
         """Return the names of the fields in which this item and another one of its fields are unlike."""

@@ -46,7 +46,7 @@ def before(shelves, name, group):
 def tried(shelves, name, group):
     """Return the group of what becomes of a group if a move is tried on each of its items."""
     steps = Steps(shelves, (name,))
-    return steps.group(steps.tried(name, steps.node(group)))
+    return steps.group(steps.tried_on(name, steps.node(group)))
 
 
 def are_sets(value):

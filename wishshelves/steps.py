@@ -53,7 +53,7 @@ class Steps:
         """Return what comes into a node by a move."""
         return self.both(self.allowed[name], self.store.laid_under(node, self.changes[name]))
 
-    def tried(self, name, node):
+    def tried_on(self, name, node):
         """Return what becomes of a node if a move is tried on each of its items."""
         return self.either(self.after(name, node), self.without(node, self.allowed[name]))
 
@@ -70,7 +70,6 @@ class Steps:
         for name in self.names:
             found = self.either(found, self.before(name, node))
         return found
-
 
     def node_at(self, places):
         """Return the node of the one item with these places."""
