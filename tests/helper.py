@@ -2,9 +2,11 @@
 
 import random
 
+from wishshelves.desk import Desk
 from wishshelves.errors import BadName
 from wishshelves.fields import Fields
 from wishshelves.moves import Move
+from wishshelves.room import Room
 from wishshelves.searches import at, below, everything, filled, least, marked, most, nothing, said, shelf
 from wishshelves.shelves import Shelves
 
@@ -126,5 +128,13 @@ def any_values():
         {}, {"in": "red"},
         deep(lambda value: [value]), deep(lambda value: (value,)), deep(lambda value: {"in": value}),
         FIELDS, FIELDS.made("in"), at("in"), at("in") & marked("red"), ~at("in"), BadName("in"),
-        FIELDS.everything, FIELDS.nothing, WIDE.group(at("a")), Move(at("in")), Shelves(FIELDS),
+        FIELDS.everything, FIELDS.nothing, WIDE.group(at("a")), Move(at("in")), Shelves(FIELDS), Room(FIELDS),
+        a_room()[0], Desk("folders in\ndeeds"),
     ]
+
+
+def a_room():
+    """Return a room with one entry."""
+    room = Room(FIELDS)
+    room.add(FIELDS.made("in"))
+    return room

@@ -6,7 +6,8 @@ import unittest
 
 from helper import FIELDS
 from wishshelves import (
-    errors, fields, groups, items, looks, moves, searches, searchtexts, shelves, ways)
+    desk, effects, entries, errors, fields, groups, items, journals, looks, moves, nearest, recipes, room, searches,
+    searchtexts, shelves, texts, ways)
 
 FUNCTIONS = {
     (searches, "at"): ["path"], (searches, "below"): ["path"], (searches, "marked"): ["name"],
@@ -20,7 +21,14 @@ FUNCTIONS = {
     (ways, "back"): ["shelves", "group", "only=None"], (ways, "lasting"): ["shelves", "group", "only=None"],
     (ways, "can"): ["shelves", "a", "b", "only=None"], (ways, "shows_can"): ["shelves", "a", "b", "value", "only=None"],
     (ways, "all_can"): ["shelves", "a", "b", "only=None"],
-    (ways, "shows_all_can"): ["shelves", "a", "b", "value", "only=None"]}
+    (ways, "shows_all_can"): ["shelves", "a", "b", "value", "only=None"],
+    (recipes, "recipe"): ["shelves", "a", "b", "only=None"],
+    (recipes, "shows_recipe"): ["shelves", "a", "b", "value", "only=None"],
+    (effects, "effects"): ["shelves", "only=None"], (effects, "alike_moves"): ["one", "other", "only=None"],
+    (nearest, "nearest"): ["item", "group", "locked=()"],
+    (texts, "show_item"): ["item"], (texts, "read_item"): ["fields", "text"], (texts, "show_fields"): ["fields"],
+    (texts, "read_fields"): ["text"], (texts, "show_shelves"): ["shelves"], (texts, "read_shelves"): ["text"],
+    (journals, "read_journal"): ["text"]}
 
 METHODS = {
     (fields.Fields, "made"): ["self", "folder", "*marks", "**values"], (fields.Fields, "item_of"): ["self", "key"],
@@ -32,7 +40,23 @@ METHODS = {
     (shelves.Shelves, "move"): ["self", "name"], (shelves.Shelves, "drop_move"): ["self", "name"],
     (shelves.Shelves, "laid"): ["self", "name"], (shelves.Shelves, "moved"): ["self", "name", "item"],
     (items.Item, "apart"): ["self", "other"], (items.Item, "laid"): ["self", "pairs"],
-    (searches.Search, "__call__"): ["self", "item", "shelves=None"]}
+    (searches.Search, "__call__"): ["self", "item", "shelves=None"],
+    (room.Room, "kept"): ["self"], (room.Room, "journal"): ["self"], (room.Room, "add"): ["self", "item"],
+    (room.Room, "take_out"): ["self", "number"], (room.Room, "move_entry"): ["self", "number", "name"],
+    (room.Room, "used_by"): ["self", "name"], (room.Room, "drop"): ["self", "name"],
+    (room.Room, "rename"): ["self", "old", "new"], (room.Room, "set_move"): ["self", "name", "move"],
+    (room.Room, "drop_move"): ["self", "name"], (room.Room, "watch"): ["self", "name"],
+    (room.Room, "unwatch"): ["self", "name"], (room.Room, "vow"): ["self", "name", "one", "other"],
+    (room.Room, "unvow"): ["self", "name"], (room.Room, "members"): ["self", "name"],
+    (room.Room, "shelves_of"): ["self", "number"], (room.Room, "looked"): ["self"],
+    (room.Room, "notices"): ["self", "since=0"],
+    (room.Room, "lead"): ["self", "number", "into", "out_of=None", "keep=()", "locked=()"],
+    (room.Room, "undo"): ["self"], (room.Room, "redo"): ["self"], (room.Room, "batch"): ["self"],
+    (room.Room, "batched"): ["self", "look"], (room.Room, "trial"): ["self"],
+    (room.Room, "tried"): ["self", "look", "keep=False"], (room.Room, "copy"): ["self"],
+    (entries.Entry, "give"): ["self", "item"], (entries.Entry, "lay"): ["self", "path"],
+    (entries.Entry, "put"): ["self", "*marks"], (entries.Entry, "drop"): ["self", "*marks"],
+    (desk.Desk, "say"): ["self", "line"]}
 
 ATTRIBUTES = (
     (FIELDS, ("folders", "marks", "numbers", "kinds", "names", "many", "everything", "nothing")),
@@ -40,8 +64,14 @@ ATTRIBUTES = (
     (FIELDS.group(searches.at("in")), ("fields", "many", "least", "table")),
     (shelves.Shelves(FIELDS), ("names", "fields", "move_names")),
     (moves.Move(searches.at("in")), ("search", "to", "on", "off", "sets")),
-    (FIELDS.made("in"), ("fields", "key", "folder", "marks")),
-    (searches.at("in") & "x", ("parts", "shelves", "many")))
+    (FIELDS.made("in"), ("fields", "key", "marks")),
+    (searches.at("in") & "x", ("parts", "shelves", "many")),
+    (room.Room(FIELDS), ("fields", "numbers", "deeds", "watches", "vows")),
+    (entries.Entry(room.Room(FIELDS), 0), ("number",)),
+    (desk.Desk("folders in\ndeeds"), ("room",)))
+
+# What tells the same as an attribute, but by what is there now.
+PROPERTIES = ((items.Item, "folder"), (entries.Entry, "item"), (entries.Entry, "folder"))
 
 
 def defined_in(module):
@@ -69,8 +99,10 @@ class InterfaceTest(unittest.TestCase):
     def test_classes(self):
         for module, name in (
                 (fields, "Fields"), (items, "Item"), (searches, "Search"), (errors, "ShelfError"), (groups, "Group"),
-                (shelves, "Shelves"), (moves, "Move")):
+                (shelves, "Shelves"), (moves, "Move"), (room, "Room"), (entries, "Entry"), (desk, "Desk")):
             self.assertIn(name, defined_in(module))
+        self.assertEqual(arguments_of(room.Room), ["fields"])
+        self.assertEqual(arguments_of(desk.Desk), ["text"])
         self.assertEqual(arguments_of(shelves.Shelves), ["fields"])
         self.assertEqual(arguments_of(moves.Move), ["search", "to=None", "on=()", "off=()", "sets=()"])
         self.assertEqual(arguments_of(fields.Fields), ["folders", "marks=()", "numbers=()", "kinds=()"])
@@ -81,7 +113,10 @@ class InterfaceTest(unittest.TestCase):
         for function, names in (
                 (moves.Move, ("to", "on", "off", "sets")), (ways.reach, ("only",)), (ways.back, ("only",)),
                 (ways.lasting, ("only",)), (ways.can, ("only",)), (ways.shows_can, ("only",)),
-                (ways.all_can, ("only",)), (ways.shows_all_can, ("only",))):
+                (ways.all_can, ("only",)), (ways.shows_all_can, ("only",)), (recipes.recipe, ("only",)),
+                (recipes.shows_recipe, ("only",)), (effects.effects, ("only",)), (effects.alike_moves, ("only",)),
+                (nearest.nearest, ("locked",)), (room.Room.lead, ("out_of", "keep", "locked")),
+                (room.Room.tried, ("keep",))):
             kinds = inspect.signature(function).parameters
             told = tuple(name for name in kinds if kinds[name].kind == inspect.Parameter.KEYWORD_ONLY)
             self.assertEqual(told, names)
@@ -90,6 +125,10 @@ class InterfaceTest(unittest.TestCase):
         for one, names in ATTRIBUTES:
             for name in names:
                 self.assertIn(name, vars(one))
+
+    def test_properties_stand_in_their_classes(self):
+        for one, name in PROPERTIES:
+            self.assertIsInstance(vars(one)[name], property)
 
 
 if __name__ == "__main__":

@@ -47,9 +47,9 @@ class Package:
         return found
 
     def run_by_operators(self):
-        """Return all functions that an operator may come to."""
+        """Return all functions that an operator or a property may come to."""
         waiting = [method for name, methods in self.methods.items() for method in methods
-                   if name.startswith("__") and name not in MAY_CHANGE]
+                   if name.startswith("__") and name not in MAY_CHANGE or is_property(method)]
         found = []
         while waiting:
             function = waiting.pop()
@@ -57,6 +57,16 @@ class Package:
                 found.append(function)
                 waiting += self.called_by(function)
         return found
+
+
+def is_property(method):
+    """Tell whether a method is a property."""
+    return [ast.unparse(one) for one in method.decorator_list] == ["property"]
+
+
+def is_of_a_room(called):
+    """Tell whether room.add is called: a deed."""
+    return ast.unparse(called) == "room.add"
 
 
 def is_new(value):
@@ -132,7 +142,7 @@ def faults_of(node):
         if name == "reversed" and turned not in ("list", "tuple", "range"):
             faults.append("L5: reversed of no list")
     if isinstance(node, ast.Call) and getattr(node.func, "attr", "") in ("sort", "add", "discard"):
-        faults.append("L5, L24: a method that the package's own classes may have")
+        faults += [] if is_of_a_room(node.func) else ["L5, L24: a method that the package's own classes may have"]
     if isinstance(node, (ast.For, ast.comprehension)):
         if isinstance(node.iter, ast.Call) and getattr(node.iter.func, "id", "") in ("set", "frozenset"):
             faults.append("L24: a loop over a set")
@@ -158,6 +168,34 @@ class OperatorsTest(unittest.TestCase):
         stored = {node.attr for tree in package.trees for node in ast.walk(tree)
                   if isinstance(node, ast.Attribute) and isinstance(node.ctx, ast.Store)}
         self.assertEqual(stored & set(package.methods), set())
+
+    def test_properties(self):
+        package = Package([text for name, text in files_of_the_package()])
+        names = [name for name, methods in package.methods.items() if any(map(is_property, methods))]
+        self.assertEqual(sorted(names), ["folder", "item"])
+        for name in names:
+            self.assertTrue(all(map(is_property, package.methods[name])), name)
+            self.assertNotIn(name, package.functions)
+        for tree in package.trees:
+            for node in ast.walk(tree):
+                if isinstance(node, ast.Call) and isinstance(node.func, ast.Attribute):
+                    self.assertNotIn(node.func.attr, names)
+                if isinstance(node, ast.FunctionDef):
+                    decorators = [ast.unparse(one) for one in node.decorator_list]
+                    self.assertIn(decorators, ([], ["property"]))
+
+    def test_the_ends_of_blocks(self):
+        package = Package([text for name, text in files_of_the_package()])
+        self.assertEqual(len(package.methods["__exit__"]), 2)
+        for method in package.methods["__exit__"]:
+            self.assertEqual([one.arg for one in method.args.args], ["self", "kind", "value", "trace"])
+            for node in method.body:
+                for one in node.body if isinstance(node, ast.If) else [node]:
+                    # net = self.net, net.now = 0, net.rows = self.rows
+                    self.assertRegex(ast.unparse(one), r"^[a-z.]+ = (self\.[a-z]+|None)$")
+                if isinstance(node, ast.If):
+                    self.assertIn(ast.unparse(node.test), ("kind is None", "kind is not None"))
+                    self.assertEqual(node.orelse, [])
 
     def test_each_attribute_that_is_read_is_assigned(self):
         package = Package([text for name, text in files_of_the_package()])
@@ -199,6 +237,10 @@ class OperatorsTest(unittest.TestCase):
         for text in ("a += 1", "sorted([str(a) for a in rows])", "max(0, n)", "any([a for a in rows])",
                      "reversed(list(rows))", "sorted(set([int(a) for a in rows]))"):
             self.assertEqual([one for node in ast.walk(ast.parse(text)) for one in faults_of(node)], [], text)
+        for rows in ("self.n = 1\n        return 1", "helped(self.rows)\n        return 1"):
+            text = f"class A:\n    @property\n    def low(self):\n        {rows}\n"
+            package = Package([text + "def helped(rows):\n    rows.append(1)\n"])
+            self.assertTrue([one for one in package.run_by_operators() if changes_in(one)], rows)
 
 
 if __name__ == "__main__":
