@@ -163,6 +163,7 @@ class ReadTest(unittest.TestCase):
                 "move a  - - - in in", "move a - - - - - in in", "drop_move", "drop_move A", "drop_move a b", "watch",
                 "watch A", "watch a b", "unwatch", "unwatch a ", "vow", "vow a", "vow a in in", "vow a in in :",
                 "vow a in in : ", "vow a : in in", "vow a in in:in in", "vow a in in :  in in", "vow a in in : zzz",
+                "vow a zzz : in in",
                 "vow a in in : in in : in in", "vow A in in : in in", "unvow", "unvow A", "undo", "redo", "deeds",
                 "batch", "batch ", "batch x", "batch -1", "batch 01", "batch 1000000000", "batch 0 0", "item 0",
                 "looked",

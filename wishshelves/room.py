@@ -234,7 +234,6 @@ class Room:
 
     def members(self, name):
         """Return the numbers of the entries that are on a shelf, ascending."""
-        self.check_shelf(name)
         return members_of(self.now, name)
 
     def shelves_of(self, number):
